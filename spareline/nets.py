@@ -82,12 +82,16 @@ def check_places(places):
         raise TooMany()
 
 
-def check_line(net, one, other, strength):
+def check_two(net, one, other):
     for place in (one, other):
         if not has_place(net, place):
             raise NoPlace(place)
     if one == other:
         raise SamePlace(one)
+
+
+def check_line(net, one, other, strength):
+    check_two(net, one, other)
     if other in net[one]:
         raise OldLine(one, other)
     if not is_strength(strength):
@@ -101,6 +105,10 @@ def has_place(net, thing):
 
 def has_line(net, one, other):
     return has_place(net, one) and has_place(net[one], other)
+
+
+def line_of(one, other):
+    return (min(one, other), max(one, other))
 
 
 def group_with(net, place):

@@ -150,3 +150,77 @@ def drawn_nets(many):
         lines = [pair + (draw.choice((1, 2, 9, 10, 10 ** 9)),) for pair in itertools.combinations(places, 2)
                  if draw.randrange(10) < share]
         yield plain_net(places, lines)
+
+
+def mixed(things, turn=0):
+    """The same things in another order, always the same one for the same turn."""
+    order = list(things)
+    random.Random(turn).shuffle(order)
+    return order
+
+
+def drawn_arcs(many, most_places=6):
+    """Arcs of two places on: unlike numbers there and back, numbers of 0, and ways that are not told."""
+    draw = random.Random(21)
+    for turn in range(many):
+        places = draw.sample(["a", "ab", "b", "ba", "c", "zz", "zzzzzzzz"], 2 + turn % (most_places - 1))
+        numbers = draw.choice(((0, 1), (0, 1, 2, 3), (1, 5, 10 ** 12), (0, 10 ** 12 - 1, 10 ** 12), (7,)))
+        share = draw.choice((3, 6, 10))
+        arcs = {place: {} for place in places}
+        for here, there in mixed(itertools.permutations(places, 2), turn):
+            if draw.randrange(10) < share:
+                arcs[here][there] = draw.choice(numbers)
+        yield arcs
+
+
+def sides_of(places):
+    """All sides, the empty one and that of all places too."""
+    for many in range(len(places) + 1):
+        for side in itertools.combinations(sorted(places), many):
+            yield list(side)
+
+
+def leaving(arcs, side):
+    return sum(number for here in side for there, number in arcs[here].items() if there not in side)
+
+
+def least_sides(arcs, ones, others):
+    """By all sides tried one by one: the least amount that leaves a parting side, and all such sides."""
+    tried = [(leaving(arcs, side), side) for side in sides_of(arcs)
+             if set(ones) <= set(side) and not set(others) & set(side)]
+    amount = min(tried)[0]
+    return amount, [side for leaves, side in tried if leaves == amount]
+
+
+def all_between(net):
+    """By all sides tried one by one: what goes between any two places, told in either order."""
+    between = {}
+    for side in sides_of(net):
+        crossing = leaving(net, side)
+        for one in side:
+            for other in net:
+                if other not in side:
+                    less = min(crossing, between.get((one, other), crossing))
+                    between[one, other] = between[other, one] = less
+    return between
+
+
+def groups_by_joining(net):
+    """The groups of a net, found by joining what lines join."""
+    groups = {place: {place} for place in net}
+    for one in net:
+        for other in net[one]:
+            both = groups[one] | groups[other]
+            for place in both:
+                groups[place] = both
+    return sorted(sorted(group) for group in {tuple(sorted(group)) for group in groups.values()})
+
+
+def without(net, lines):
+    """The net with these lines out, told in either order, made without the program."""
+    out = {frozenset(line) for line in lines}
+    return {one: {other: net[one][other] for other in net[one] if frozenset((one, other)) not in out} for one in net}
+
+
+def bare_lines(net):
+    return sorted((one, other) for one in net for other in net[one] if one < other)

@@ -5,8 +5,8 @@ import unittest
 
 from spareline.errors import NoLine, NoPlace, NoStrength, OldLine, OldPlace, SamePlace, TooMany
 from spareline.nets import crossing_of, groups_in, lines_in, made_net, net_joined, net_less
-from tests.helper import (THIRTEEN, TWELVE, drawn_nets, no_names, no_strengths, no_texts, plain_net, refuses,
-                          small_nets, turned)
+from tests.helper import (THIRTEEN, TWELVE, drawn_nets, groups_by_joining, no_names, no_strengths, no_texts, plain_net,
+                          refuses, small_nets, turned)
 
 
 def all_lines(places, strength):
@@ -149,16 +149,6 @@ class Crossings(unittest.TestCase):
                     self.assertEqual(crossing_of(net, rest), asked)
 
 
-def groups_by_joining(net):
-    groups = {place: {place} for place in net}
-    for one in net:
-        for other in net[one]:
-            both = groups[one] | groups[other]
-            for place in both:
-                groups[place] = both
-    return sorted(set(tuple(sorted(group)) for group in groups.values()))
-
-
 class Groups(unittest.TestCase):
     def test_ordinary_groups(self):
         net = plain_net(["f", "e", "d", "c", "b", "a"], [("f", "a", 1), ("c", "f", 1), ("b", "e", 10 ** 9)])
@@ -176,7 +166,7 @@ class Groups(unittest.TestCase):
 
     def test_any_net(self):
         for net in itertools.chain(small_nets(), drawn_nets(400)):
-            asked = [list(group) for group in groups_by_joining(net)]
+            asked = groups_by_joining(net)
             self.assertEqual(groups_in(net), asked)
             self.assertEqual(groups_in(turned(net)), asked)
 
