@@ -55,6 +55,16 @@ def net_joined(net, lines):
     return net_of(net, lines_in(net) + list(lines))
 
 
+def net_weakened(net, lines):
+    """The net with so much taken from its lines; a line from which all is taken is there no more."""
+    rest = {}
+    for one, other, strength in lines_in(net):
+        rest[(one, other)] = strength
+    for one, other, many in lines:
+        rest[line_of(one, other)] -= many
+    return net_of(net, [(line[0], line[1], rest[line]) for line in rest if rest[line] > 0])
+
+
 def net_of(places, lines):
     net = {}
     for place in sorted(places):

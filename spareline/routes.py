@@ -1,5 +1,6 @@
 """Routes and the least side between two places, and whether such a paper is right."""
 
+from spareline.errors import TooWeak
 from spareline.flows import least_along, least_side, pushed_through, shortest_way
 from spareline.nets import check_two, crossing_of, has_line, line_of
 
@@ -38,6 +39,24 @@ def is_shown(net, one, other, routes, side):
     if not keeps_strengths(net, routes) or not parts_two(net, one, other, side):
         return False
     return sum([many for many, places in routes]) == crossing_of(net, side)
+
+
+def check_strong(net, places, k):
+    side = weak_side(net, places, k)
+    if side is not None:
+        raise TooWeak(side)
+
+
+def weak_side(net, places, k):
+    """The side told for the first two of the places that have less than k routes; None where all have k."""
+    # Two places that have k routes to a third one have k routes themselves. So where any two lack some, the first
+    # place and another one do.
+    rising = sorted(places)
+    for other in rising[1:]:
+        cut = least_side(net, rising[:1], [other])
+        if cut[0] < k:
+            return cut[1]
+    return None
 
 
 def flow_on(net, room):

@@ -97,7 +97,7 @@ def spoil(thing):
 
 
 def answers_freshly(case, call, *handed):
-    """Holds a call to point 4: it changes nothing, and its answer is new, the asker's own, and no holder is in it twice."""
+    """Holds a call to point 4: it changes nothing, its answer is new and the asker's own, no holder is in it twice."""
     ahead = shape_of(handed)
     answer = call(*handed)
     case.assertEqual(shape_of(handed), ahead)
@@ -224,3 +224,110 @@ def without(net, lines):
 
 def bare_lines(net):
     return sorted((one, other) for one in net for other in net[one] if one < other)
+
+
+def ring_of(places):
+    return [(one, other, 1) for one, other in zip(places, places[1:] + places[:1])]
+
+
+# A ring of four, a ring of three that hangs by one line, a chain by itself, and a place by itself.
+TOWN = plain_net("abcdefghijk", ring_of(list("badc")) + [("d", "e", 9)] + ring_of(list("egf"))
+                 + [("h", "i", 2), ("i", "j", 10 ** 9)])
+
+
+def all_nets_of_five():
+    pairs = list(itertools.combinations("cebad", 2))
+    for there in itertools.product((False, True), repeat=len(pairs)):
+        yield plain_net("cebad", [pair + (1,) for pair, stands in zip(pairs, there) if stands])
+
+
+def round_nets():
+    """Nets of rings that have a place or a line in common, hang together or lie apart, up to twelve places."""
+    places = mixed(TWELVE)
+    for many in (3, 4, 7, 12):
+        yield plain_net(places, ring_of(places[:many]))
+    for many in (3, 5, 9):
+        yield plain_net(places, ring_of(places[:many]) + ring_of(places[many - 1:]))
+        yield plain_net(places, ring_of(places[:many]) + ring_of(places[many:]))
+        yield plain_net(places, ring_of(places[:many]) + ring_of(places[many - 2:]))
+        yield plain_net(places, ring_of(places) + [(places[0], places[many - 1], 1)])
+    yield plain_net(places, ring_of(places) + [(places[at], places[at + 6], 1) for at in range(6)])
+    yield TOWN
+
+
+def nets_for_cuts():
+    """All nets of up to five places, nets of rings, and thin and thick ones of up to twelve places."""
+    yield from small_nets()
+    yield from all_nets_of_five()
+    yield from round_nets()
+    yield from drawn_nets(52)
+
+
+def counted(net, lines):
+    return len(groups_by_joining(without(net, lines)))
+
+
+def lone_by_counting(net):
+    return [line for line in bare_lines(net) if counted(net, [line]) == counted(net, []) + 1]
+
+
+def pairs_by_counting(net):
+    lone = lone_by_counting(net)
+    firm = [line for line in bare_lines(net) if line not in lone]
+    many = counted(net, [])
+    return [pair for pair in itertools.combinations(firm, 2) if counted(net, pair) == many + 1]
+
+
+def restrengthened(net):
+    """The same places and lines with other strengths."""
+    return plain_net(net, [line + (10 ** 9 - 7 * at,) for at, line in enumerate(bare_lines(net))])
+
+
+def drawn_strong(many, most_places=6):
+    """Nets in which most places have a line, of small, of great and of mixed strengths."""
+    draw = random.Random(53)
+    for turn in range(many):
+        names = ["a", "ab", "b", "ba", "c", "d", "zz", "zzzzzzzz", "e", "f", "g", "h"]
+        places = draw.sample(names, turn % (most_places + 1))
+        numbers = draw.choice(((1,), (1, 2), (1, 2, 3), (2, 4), (1, 1, 5), (6, 7), (1, 2, 10 ** 9),
+                               (10 ** 9 - 1, 10 ** 9)))
+        share = draw.choice((5, 8, 10))
+        lines = [pair + (draw.choice(numbers),) for pair in itertools.combinations(places, 2)
+                 if draw.randrange(10) < share]
+        yield plain_net(places, lines)
+
+
+def put_to(net, lines):
+    """The net with as much put to its lines, or taken where it is below nought, made without the program."""
+    strengths = {(one, other): net[one][other] for one, other in bare_lines(net)}
+    for one, other, many in lines:
+        line = tuple(sorted((one, other)))
+        strengths[line] = strengths.get(line, 0) + many
+    return plain_net(net, [line + (strength,) for line, strength in strengths.items() if strength])
+
+
+def keeps_by_sides(net, k, place=None):
+    """By all sides tried: whether any two places, other than the one told, have k routes."""
+    for side in sides_of(net):
+        if set(side) - {place} and set(net) - set(side) - {place} and leaving(net, side) < k:
+            return False
+    return True
+
+
+def first_weak_side(net, places, k):
+    """By all sides tried: the side told for the first two of the places that have less than k routes, or None."""
+    between = all_between(net)
+    for one, other in itertools.combinations(sorted(places), 2):
+        if between[one, other] < k:
+            return min(least_sides(net, [one], [other])[1], key=len)
+    return None
+
+
+def refuses_with_side(case, kind, side, call, *handed):
+    """Holds the call to this very class, with a side equal to this one, and to leaving alone what it was handed."""
+    ahead = shape_of(handed)
+    error = refusal_of(call, *handed)
+    case.assertIs(type(error), kind, handed)
+    case.assertIs(type(error.side), list)
+    case.assertEqual(error.side, side, handed)
+    case.assertEqual(shape_of(handed), ahead)

@@ -5,64 +5,9 @@ import unittest
 
 from spareline.cuts import cut_off, lone_lines, parting_pairs
 from spareline.errors import NoLine, NoPlace
-from tests.helper import (LETTERS, TWELVE, bare_lines, drawn_nets, groups_by_joining, mixed, plain_net, refuses,
+from tests.helper import (LETTERS, TOWN, TWELVE, bare_lines, drawn_nets, groups_by_joining, lone_by_counting, mixed,
+                          nets_for_cuts, pairs_by_counting, plain_net, refuses, restrengthened, ring_of, round_nets,
                           small_nets, turned, without)
-
-
-def ring_of(places):
-    return [(one, other, 1) for one, other in zip(places, places[1:] + places[:1])]
-
-
-# A ring of four, a ring of three that hangs by one line, a chain by itself, and a place by itself.
-TOWN = plain_net("abcdefghijk", ring_of(list("badc")) + [("d", "e", 9)] + ring_of(list("egf"))
-                 + [("h", "i", 2), ("i", "j", 10 ** 9)])
-
-
-def all_nets_of_five():
-    pairs = list(itertools.combinations("cebad", 2))
-    for there in itertools.product((False, True), repeat=len(pairs)):
-        yield plain_net("cebad", [pair + (1,) for pair, stands in zip(pairs, there) if stands])
-
-
-def round_nets():
-    """Nets of rings that have a place or a line in common, hang together or lie apart, up to twelve places."""
-    places = mixed(TWELVE)
-    for many in (3, 4, 7, 12):
-        yield plain_net(places, ring_of(places[:many]))
-    for many in (3, 5, 9):
-        yield plain_net(places, ring_of(places[:many]) + ring_of(places[many - 1:]))
-        yield plain_net(places, ring_of(places[:many]) + ring_of(places[many:]))
-        yield plain_net(places, ring_of(places[:many]) + ring_of(places[many - 2:]))
-        yield plain_net(places, ring_of(places) + [(places[0], places[many - 1], 1)])
-    yield plain_net(places, ring_of(places) + [(places[at], places[at + 6], 1) for at in range(6)])
-    yield TOWN
-
-
-def asked_nets():
-    yield from small_nets()
-    yield from all_nets_of_five()
-    yield from round_nets()
-    yield from drawn_nets(52)
-
-
-def counted(net, lines):
-    return len(groups_by_joining(without(net, lines)))
-
-
-def lone_by_counting(net):
-    return [line for line in bare_lines(net) if counted(net, [line]) == counted(net, []) + 1]
-
-
-def pairs_by_counting(net):
-    lone = lone_by_counting(net)
-    firm = [line for line in bare_lines(net) if line not in lone]
-    many = counted(net, [])
-    return [pair for pair in itertools.combinations(firm, 2) if counted(net, pair) == many + 1]
-
-
-def restrengthened(net):
-    """The same places and lines with other strengths."""
-    return plain_net(net, [line + (10 ** 9 - 7 * at,) for at, line in enumerate(bare_lines(net))])
 
 
 class LoneLines(unittest.TestCase):
@@ -80,14 +25,14 @@ class LoneLines(unittest.TestCase):
         self.assertEqual(lone_lines(plain_net(places, ring_of(places))), [])
 
     def test_groups_counted_anew(self):
-        for net in asked_nets():
+        for net in nets_for_cuts():
             told = lone_lines(net)
             self.assertIs(type(told), list)
             self.assertEqual(told, lone_by_counting(net), net)
             self.assertTrue(all(type(line) is tuple for line in told))
 
     def test_strengths_and_orders_count_nothing(self):
-        for net in asked_nets():
+        for net in nets_for_cuts():
             self.assertEqual(lone_lines(restrengthened(net)), lone_lines(net))
             self.assertEqual(lone_lines(turned(net)), lone_lines(net))
 
@@ -181,7 +126,7 @@ class PartingPairs(unittest.TestCase):
             self.assertEqual(parting_pairs(net), list(itertools.combinations(bare_lines(net), 2)))
 
     def test_groups_counted_anew(self):
-        for net in asked_nets():
+        for net in nets_for_cuts():
             told = parting_pairs(net)
             self.assertIs(type(told), list)
             self.assertEqual(told, pairs_by_counting(net), net)
@@ -196,7 +141,7 @@ class PartingPairs(unittest.TestCase):
                     self.assertIn(one ^ other, pairs)
 
     def test_strengths_and_orders_count_nothing(self):
-        for net in asked_nets():
+        for net in nets_for_cuts():
             self.assertEqual(parting_pairs(restrengthened(net)), parting_pairs(net))
             self.assertEqual(parting_pairs(turned(net)), parting_pairs(net))
 

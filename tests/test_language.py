@@ -175,6 +175,13 @@ class Language(unittest.TestCase):
                 if isinstance(node, ast.Name):
                     self.assertIn(node.id, known, (file.name, node.lineno))
 
+    def test_no_name_is_a_method_and_a_value(self):
+        methods = [part.name for file, tree in trees() for node in ast.walk(tree) if isinstance(node, ast.ClassDef)
+                   for part in node.body if isinstance(part, ast.FunctionDef)]
+        values = [node.attr for file, tree in trees() for node in ast.walk(tree)
+                  if isinstance(node, ast.Attribute) and isinstance(node.ctx, ast.Store)]
+        self.assertFalse(set(methods) & set(values))
+
     def test_methods(self):
         free = METHODS | own_attributes()
         for file, tree in trees():

@@ -4,13 +4,35 @@ import copy
 import itertools
 import unittest
 
+from spareline.build import is_fewest, lacking_groups, new_lines
 from spareline.cuts import cut_off, lone_lines, parting_pairs
 from spareline.cuttree import cut_tree, held_by, is_cut_tree, least_on, way_on
+from spareline.exchange import Exchange, cleared_by, most_bearable
 from spareline.flows import least_side
 from spareline.nets import crossing_of, groups_in, lines_in, made_net, net_joined, net_less
+from spareline.oneway import is_one_way, keeps_each_way, one_way
+from spareline.rings import held_by_three, rings_in
 from spareline.routes import is_shown, most_between, routes_between, side_between
 from spareline.texts import read_net, show_net
-from tests.helper import answers_freshly, drawn_arcs, drawn_nets, mixed, small_nets, turned
+from tests.helper import (answers_freshly, drawn_arcs, drawn_nets, drawn_strong, mixed, refusal_of, small_nets, spoil,
+                          turned)
+
+
+def done(net, place, one, other, many):
+    return Exchange(place, one, other, many).done(net)
+
+
+def undone(net, place, one, other, many):
+    return Exchange(place, one, other, many).undone(net)
+
+
+def cleared(net, place, k):
+    """The exchanges by which a place is cleared, as tuples, which can be compared."""
+    return [(each.place, each.one, each.other, each.many) for each in cleared_by(net, place, k)]
+
+
+def asked_nets():
+    return itertools.chain(small_nets(), drawn_nets(39), drawn_strong(26, 12))
 
 
 def asked_of(net):
@@ -31,7 +53,14 @@ def asked_of(net):
         (held_by, [2]),
         (lone_lines, []),
         (parting_pairs, []),
-    ] + asked_of_places(net, mixed(net))
+        (rings_in, []),
+        (held_by_three, []),
+        (new_lines, [3]),
+        (lacking_groups, [3]),
+        (is_fewest, [3, new_lines(net, 3), lacking_groups(net, 3)]),
+        (is_one_way, [net]),
+        (keeps_each_way, [2]),
+    ] + asked_of_places(net, mixed(net)) + asked_if_not_refused(net, mixed(net))
 
 
 def asked_of_places(net, places):
@@ -50,9 +79,18 @@ def asked_of_places(net, places):
     ]
 
 
+def asked_if_not_refused(net, places):
+    asked = [(one_way, [k]) for k in (1, 2, 3)] + [(cleared, [place, 2]) for place in places]
+    for place, one, other in itertools.product(places[:1], places[1:4], places[1:4]):
+        asked.append((most_bearable, [place, one, other, 2]))
+        asked.append((done, [place, one, other, 1]))
+        asked.append((undone, [place, one, other, 1]))
+    return [(call, others) for call, others in asked if refusal_of(call, net, *others) is None]
+
+
 class TheAskersOwn(unittest.TestCase):
     def test_calls_change_nothing_and_answer_freshly(self):
-        for net in itertools.chain(small_nets(), drawn_nets(39)):
+        for net in asked_nets():
             for call, others in asked_of(net):
                 answers_freshly(self, call, copy.deepcopy(net), *copy.deepcopy(others))
             answers_freshly(self, made_net, list(net), lines_in(net))
@@ -63,23 +101,47 @@ class TheAskersOwn(unittest.TestCase):
             places = mixed(arcs)
             answers_freshly(self, least_side, copy.deepcopy(arcs), places[:1], places[1:])
             answers_freshly(self, least_side, copy.deepcopy(arcs), places[1:], places[:1])
-        for net in itertools.chain(small_nets(), drawn_nets(39)):
+        for net in asked_nets():
             if len(net) > 1:
                 one, other = mixed(net)[:2]
                 for call in (way_on, least_on):
                     answers_freshly(self, call, mixed(cut_tree(net)), one, other)
                     answers_freshly(self, call, mixed(cut_tree(net)), other, one)
 
+    def test_exchanges_are_new_and_what_was_handed_in_is_not_in_them(self):
+        for net in drawn_strong(40):
+            for place in net:
+                if refusal_of(cleared_by, net, place, 2) is None:
+                    told = cleared(net, place, 2)
+                    exchanges = cleared_by(net, place, 2)
+                    self.assertEqual(len(exchanges), len({id(exchange) for exchange in exchanges}))
+                    for exchange in exchanges:
+                        exchange.many += 1
+                        exchange.one = "spoilt"
+                    spoil(exchanges)
+                    self.assertEqual(cleared(net, place, 2), told)
+
+    def test_plans_and_their_arcs(self):
+        for net in drawn_strong(60):
+            if refusal_of(one_way, net, 1) is None:
+                plan = one_way(net, 1)
+                answers_freshly(self, is_one_way, copy.deepcopy(net), copy.deepcopy(plan))
+                answers_freshly(self, keeps_each_way, copy.deepcopy(plan), 1)
+                self.assertEqual(is_one_way(turned(net), turned(plan)), is_one_way(net, plan))
+        for arcs in drawn_arcs(60):
+            answers_freshly(self, keeps_each_way, copy.deepcopy(arcs), 1)
+
     def test_equal_nets_have_equal_answers(self):
-        for net in itertools.chain(small_nets(), drawn_nets(39)):
+        for net in asked_nets():
             for call, others in asked_of(net):
                 self.assertEqual(call(turned(net), *others), call(net, *others), call)
 
 
 class Nets(unittest.TestCase):
     def test_told_nets_are_nets(self):
-        for net in itertools.chain(small_nets(), drawn_nets(39)):
-            told = [call(net, *others) for call, others in asked_of(net) if call in (net_less, net_joined)]
+        for net in asked_nets():
+            nets = (net_less, net_joined, done, undone)
+            told = [call(net, *others) for call, others in asked_of(net) if call in nets]
             told += [made_net(list(net), lines_in(net)), read_net(show_net(net))]
             for other_net in told:
                 self.hold_as_net(other_net)
