@@ -65,6 +65,12 @@ def net_weakened(net, lines):
     return net_of(net, [(line[0], line[1], rest[line]) for line in rest if rest[line] > 0])
 
 
+def net_without(net, place):
+    """The net without the place and its lines."""
+    others = [other for other in net if other != place]
+    return net_of(others, [line for line in lines_in(net) if place not in line[:2]])
+
+
 def net_of(places, lines):
     net = {}
     for place in sorted(places):

@@ -2,7 +2,7 @@
 
 from spareline.exchange import cleared_by
 from spareline.flows import least_side
-from spareline.nets import crossing_of, lines_in, net_of, net_weakened
+from spareline.nets import crossing_of, lines_in, net_of, net_weakened, net_without
 from spareline.routes import check_strong, most_between
 
 
@@ -56,7 +56,7 @@ def net_past(net, place, exchanges):
     rest = net
     for exchange in exchanges:
         rest = exchange.done(rest)
-    return net_of([other for other in rest if other != place], lines_in(rest))
+    return net_without(rest, place)
 
 
 def plan_of(net, steps):

@@ -331,3 +331,168 @@ def refuses_with_side(case, kind, side, call, *handed):
     case.assertIs(type(error.side), list)
     case.assertEqual(error.side, side, handed)
     case.assertEqual(shape_of(handed), ahead)
+
+
+def partings_of(places):
+    """All ways to part the places into groups, one group of all of them among these."""
+    if not places:
+        yield []
+        return
+    for groups in partings_of(places[1:]):
+        yield [[places[0]]] + groups
+        for at, group in enumerate(groups):
+            yield groups[:at] + [[places[0]] + group] + groups[at + 1:]
+
+
+def between_groups(net, groups):
+    """The strengths of all lines whose places are in unlike groups, summed."""
+    at = {place: number for number, group in enumerate(groups) for place in group}
+    return sum(net[one][other] for one, other in bare_lines(net) if at[one] != at[other])
+
+
+def most_trees(net):
+    """By all partings tried: how many trees can share no strand; none where nothing bounds them."""
+    bounds = [between_groups(net, groups) // (len(groups) - 1) for groups in partings_of(sorted(net))
+              if len(groups) > 1]
+    return min(bounds) if bounds else None
+
+
+def join_all(net, lines):
+    """Whether lines join all places and close no ring, found by joining."""
+    pieces = {place: {place} for place in net}
+    for one, other in lines:
+        if other in pieces[one]:
+            return False
+        both = pieces[one] | pieces[other]
+        for place in both:
+            pieces[place] = both
+    return all(len(piece) == len(net) for piece in pieces.values())
+
+
+def hold_trees(case, net, trees):
+    """Holds trees to point 81: each one a tree, and no line in more of them than its strength."""
+    case.assertIs(type(trees), list)
+    used = {}
+    for tree in trees:
+        case.assertIs(type(tree), list)
+        case.assertTrue(all(type(line) is tuple and len(line) == 2 for line in tree))
+        case.assertEqual(tree, sorted(set(tree)))
+        case.assertLessEqual(set(tree), set(bare_lines(net)))
+        case.assertTrue(join_all(net, tree), (net, tree))
+        for line in tree:
+            used[line] = used.get(line, 0) + 1
+    for one, other in used:
+        case.assertLessEqual(used[one, other], net[one][other], (net, trees))
+
+
+def hold_parting(case, net, groups, trees):
+    """Holds groups to point 83: a parting of the net that has too few lines between for one tree more."""
+    case.assertIs(type(groups), list)
+    case.assertGreaterEqual(len(groups), 2)
+    for group in groups:
+        case.assertIs(type(group), list)
+        case.assertTrue(group)
+        case.assertEqual(group, sorted(group))
+    case.assertEqual(groups, sorted(groups))
+    case.assertEqual(sorted(place for group in groups for place in group), sorted(net))
+    case.assertLess(between_groups(net, groups), (trees + 1) * (len(groups) - 1), (net, groups))
+
+
+def full_net(places, strength):
+    return plain_net(places, [pair + (strength,) for pair in itertools.combinations(places, 2)])
+
+
+class Replay:
+    """A works told by a plain list of deeds: each answer comes from doing all of them anew on the first net."""
+
+    def __init__(self, net):
+        self.first = copy.deepcopy(net)
+        self.done = []
+
+    def standing(self):
+        places = set(self.first)
+        lines = {frozenset(line): self.first[line[0]][line[1]] for line in bare_lines(self.first)}
+        resting = {}
+        for word, *told in self.done:
+            line = frozenset(told[:2])
+            if word == "settle":
+                places.add(told[0])
+            elif word == "leave":
+                places.remove(told[0])
+                lines = {line: lines[line] for line in lines if told[0] not in line}
+                resting = {line: resting[line] for line in resting if told[0] not in line}
+            elif word == "build":
+                lines[line] = told[2]
+            elif word == "drop":
+                (lines if line in lines else resting).pop(line)
+            elif word == "shut":
+                resting[line] = lines.pop(line)
+            else:
+                lines[line] = resting.pop(line)
+        return plain_net(places, [tuple(line) + (lines[line],) for line in lines]), resting
+
+    def refusal(self, word, told):
+        """The name of the refusal that is due, and its values; None where none is."""
+        net, resting = self.standing()
+        line = frozenset(told[:2])
+        there = len(line) == 2 and line in [frozenset(pair) for pair in bare_lines(net)]
+        if word == "settle":
+            if not (isinstance(told[0], str) and 1 <= len(told[0]) <= 8 and set(told[0]) <= set(LETTERS)):
+                return "NoPlace", told
+            if told[0] in net:
+                return "OldPlace", told
+            return ("TooMany", ()) if len(net) >= 12 else None
+        if word == "leave":
+            return ("NoPlace", told) if told[0] not in net else None
+        if word == "build":
+            for place in told[:2]:
+                if place not in net:
+                    return "NoPlace", (place,)
+            if told[0] == told[1]:
+                return "SamePlace", told[:1]
+            if there or line in resting:
+                return "OldLine", told[:2]
+            return ("NoStrength", told[2:]) if type(told[2]) is not int or not 1 <= told[2] <= 10 ** 9 else None
+        if word == "undo":
+            return ("NoDeed", ()) if not self.done else None
+        stands = {"drop": there or line in resting, "shut": there, "reopen": line in resting}[word]
+        return None if stands else ("NoLine", told)
+
+    def do(self, word, *told):
+        """The groups that are new, or the refusal's name and values."""
+        refusal = self.refusal(word, told)
+        if refusal is not None:
+            return refusal
+        ahead = groups_by_joining(self.standing()[0])
+        if word == "undo":
+            self.done.pop()
+        else:
+            self.done.append((word,) + told)
+        return [group for group in groups_by_joining(self.standing()[0]) if group not in ahead]
+
+    def idle(self):
+        resting = self.standing()[1]
+        return sorted(tuple(sorted(line)) + (resting[line],) for line in resting)
+
+
+def drawn_deeds(draw, replay, many):
+    """So many deeds, most of which can be done on what stands, but not all."""
+    for turn in range(many):
+        net, resting = replay.standing()
+        names = sorted(net) + ["a", "b", "c", "new", "zzzzzzzz", "", "Q", "toolongaa"]
+        word = draw.choice(("settle", "settle", "leave", "build", "build", "build", "build", "drop", "shut", "shut",
+                            "reopen", "undo", "undo"))
+        if word == "undo":
+            yield ("undo",)
+        elif word == "settle":
+            signs = [draw.choice("abcd") for sign in range(draw.choice((1, 1, 2)))]
+            yield word, "".join(signs) + draw.choice(("", "", "", "5"))
+        elif word == "leave":
+            yield word, draw.choice(names)
+        else:
+            lines = bare_lines(net) + [tuple(sorted(line)) for line in resting]
+            pair = draw.choice(lines) if lines and draw.randrange(4) else (draw.choice(names), draw.choice(names))
+            if word == "build" and len(net) > 1 and draw.randrange(4):
+                pair = draw.sample(sorted(net), 2)
+            pair = tuple(mixed(pair, draw.randrange(9)))
+            yield (word,) + pair + ((draw.choice((0, 1, 1, 2, 3, 10 ** 9, 10 ** 9 + 1)),) if word == "build" else ())

@@ -9,6 +9,7 @@ from spareline.cuts import cut_off, lone_lines, parting_pairs
 from spareline.cuttree import cut_tree, held_by, is_cut_tree, least_on, way_on
 from spareline.exchange import Exchange, cleared_by, most_bearable
 from spareline.flows import least_side
+from spareline.forests import are_all_trees, parting_of, trees_in
 from spareline.nets import crossing_of, groups_in, lines_in, made_net, net_joined, net_less
 from spareline.oneway import is_one_way, keeps_each_way, one_way
 from spareline.rings import held_by_three, rings_in
@@ -60,6 +61,9 @@ def asked_of(net):
         (is_fewest, [3, new_lines(net, 3), lacking_groups(net, 3)]),
         (is_one_way, [net]),
         (keeps_each_way, [2]),
+        (trees_in, [3]),
+        (parting_of, [3]),
+        (are_all_trees, [3, trees_in(net, 3), parting_of(net, 3)]),
     ] + asked_of_places(net, mixed(net)) + asked_if_not_refused(net, mixed(net))
 
 
